@@ -22,7 +22,10 @@ def walk(steps, start):
 
 
 def path(came, end):
-    """Tell the arrows by which a walk came from its start to a box, in order."""
+    """Tell the arrows by which a walk came from its start to a box, in order.
+
+    Where came has something else ahead of the boxes, it is told instead.
+    """
     arrows = []
     step = came[end]
     while step is not None:
