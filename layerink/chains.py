@@ -32,3 +32,14 @@ def rows(web, layering):
         for bend in chain[1:-1]:
             told[bend[2]].append(bend)
     return told
+
+
+def neighbours(chains):
+    """Tell two dicts: for each item those above it, and those below it, as often as segments lead there."""
+    above = {}
+    below = {}
+    for chain in chains:
+        for upper, lower in zip(chain, chain[1:]):
+            below.setdefault(upper, []).append(lower)
+            above.setdefault(lower, []).append(upper)
+    return above, below

@@ -2,26 +2,26 @@
 
 
 def segments_below(rows, chains):
-    """Tell for each row the segments to the next one, as pairs of places in the two rows."""
+    """Tell for each row the segments to the next one: places in the two rows, and the arrow."""
     where = {}
     for number, row in enumerate(rows):
         for place, item in enumerate(row):
             where[item] = (number, place)
     below = [[] for row in rows]
-    for chain in chains:
+    for arrow, chain in enumerate(chains):
         for upper, lower in zip(chain, chain[1:]):
             number, place = where[upper]
-            below[number].append((place, where[lower][1]))
+            below[number].append((place, where[lower][1], arrow))
     return below
 
 
 def crossed(segments):
-    """Count the crossings of segments between two rows, pairs of places in these."""
+    """Count the crossings of segments between two rows."""
     count = 0
     seen = []
     # Sorted, segments from one upper item have rising lower places, so that
     # they don't count among one another.
-    for upper, lower in sorted(segments):
+    for upper, lower, arrow in sorted(segments):
         count += len([earlier for earlier in seen if earlier > lower])
         seen.append(lower)
     return count

@@ -7,25 +7,9 @@ import unittest
 from layerink.chains import chains, rows
 from layerink.crossings import between, crossings
 from layerink.layers import layers
+from drawings import between_by_words, in_any_order
 from layerings import roomy_webs
 from samples import HUGE, mixed_webs, web_of
-
-
-def between_by_words(some, links, upper):
-    """The crossings below a row, by going through all twos of segments."""
-    if not 0 <= upper < len(some) - 1:
-        return 0
-    top, low = some[upper], some[upper + 1]
-    segments = [(one, other) for chain in links for one, other in zip(chain, chain[1:]) if one in top]
-    count = 0
-    for (one, other), (mate, end) in itertools.combinations(segments, 2):
-        if one != mate and other != end:
-            count += (top.index(one) < top.index(mate)) != (low.index(other) < low.index(end))
-    return count
-
-
-def in_any_order(source, some):
-    return [source.sample(row, len(row)) for row in some]
 
 
 def drawn_webs():
