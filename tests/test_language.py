@@ -117,6 +117,15 @@ class Modules(unittest.TestCase):
                     for alias in node.names:
                         self.assertIn(alias.name, known[node.module.split(".")[1]])
 
+    def test_no_import_circles(self):
+        needs = {stem: set() for stem in sources()}
+        for stem, node in each_node(ast.ImportFrom):
+            needs[stem].add(node.module.split(".")[1])
+        while needs:
+            free = {stem for stem, some in needs.items() if not some & needs.keys()}
+            self.assertTrue(free, sorted(needs))
+            needs = {stem: some for stem, some in needs.items() if stem not in free}
+
     def test_functions_are_small(self):
         for stem, node in each_node(ast.FunctionDef):
             self.assertLessEqual(node.end_lineno - node.lineno + 1, 40, (stem, node.name))
@@ -153,6 +162,31 @@ class Names(unittest.TestCase):
                 self.assertIn(node.func.attr, METHODS | own, stem)
 
 
+    def test_methods_are_no_attributes(self):
+        methods, attributes = set(), set()
+        for _, node in each_node(ast.ClassDef):
+            names = [part.name for part in node.body if isinstance(part, ast.FunctionDef)]
+            self.assertEqual(len(names), len(set(names)), node.name)
+            methods |= set(names)
+        for _, node in each_node(ast.Attribute):
+            if isinstance(node.ctx, ast.Store):
+                attributes.add(node.attr)
+        self.assertFalse(methods & attributes)
+        for stem, tree in trees().items():
+            called = [node.func for node in ast.walk(tree) if isinstance(node, ast.Call)]
+            for node in ast.walk(tree):
+                if isinstance(node, ast.Attribute) and isinstance(node.ctx, ast.Load) and node not in called:
+                    self.assertIn(node.attr, attributes, stem)
+
+    def test_class_bodies(self):
+        for stem, node in each_node(ast.ClassDef):
+            self.assertEqual(node.decorator_list, [])
+            for part in node.body[1:]:
+                self.assertIsInstance(part, ast.FunctionDef, (stem, node.name))
+        for stem, node in each_node(ast.FunctionDef):
+            self.assertEqual(node.decorator_list, [], (stem, node.name))
+
+
 class Expressions(unittest.TestCase):
     def test_barred(self):
         for stem, node in each_node(*BARRED_NODES):
@@ -168,6 +202,21 @@ class Expressions(unittest.TestCase):
                 if isinstance(sign, (ast.Is, ast.IsNot)):
                     self.assertIsInstance(right, ast.Constant, stem)
                     self.assertIn(right.value, (None, True, False), stem)
+
+    def test_lists_instead_of_generators(self):
+        for stem, node in each_node(ast.GeneratorExp, ast.Yield, ast.YieldFrom):
+            self.fail((stem, node.lineno))
+
+    def test_no_sorting_in_place(self):
+        for stem, node in each_node(ast.Attribute):
+            self.assertNotEqual(node.attr, "sort", stem)
+
+    def test_only_own_errors_are_caught(self):
+        own = {node.name for stem, node in each_node(ast.ClassDef) if stem == "errors"}
+        for stem, node in each_node(ast.ExceptHandler):
+            kinds = node.type.elts if isinstance(node.type, ast.Tuple) else [node.type]
+            for kind in kinds:
+                self.assertIn(kind.id, own, stem)
 
     def test_raised_on_the_spot(self):
         for stem, node in each_node(ast.Raise):
